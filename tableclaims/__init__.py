@@ -1,0 +1,1 @@
+"""Claims found in tables: see tableclaims.claims.answers."""
