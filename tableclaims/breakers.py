@@ -1,59 +1,9 @@
-"""Claims: their shape, what they name, and their breakers, each the tuple of its rows' numbers."""
+"""Claims: what they name, and their breakers, each the tuple of its rows' numbers."""
 
-from tableclaims.conditions import columns_named, is_condition, is_so
+from tableclaims.conditions import columns_named, is_so
 from tableclaims.refusals import NotThere, WrongShape
-from tableclaims.tables import MISSING, alike_rows, are_words, column_names, has_numbers, picked, table_called
-
-ONE_ROW = ("col",)
-TWO_ROWS = ("one", "two")
-
-
-def is_names(tree):
-    return isinstance(tree, tuple) and are_words(tree)
-
-
-def is_refers(tree):
-    if len(tree) != 5 or not isinstance(tree[3], str):
-        return False
-    if not is_names(tree[2]) or not is_names(tree[4]):
-        return False
-    return len(tree[2]) >= 1 and len(tree[2]) == len(tree[4])
-
-
-def is_measure(tree):
-    if tree == ("count",):
-        return True
-    return isinstance(tree, tuple) and len(tree) == 2 and tree[0] == "sum" and isinstance(tree[1], str)
-
-
-def is_groups(tree):
-    if len(tree) != 6 or not is_names(tree[2]) or not is_measure(tree[3]):
-        return False
-    return isinstance(tree[4], int) and isinstance(tree[5], int)
-
-
-def is_claim(tree):
-    if not isinstance(tree, tuple) or len(tree) < 3 or not isinstance(tree[1], str):
-        return False
-    head = tree[0]
-    if head in ("each", "any"):
-        return len(tree) == 3 and is_condition(tree[2], ONE_ROW)
-    if head in ("pairs", "next"):
-        return len(tree) == 3 and is_condition(tree[2], TWO_ROWS)
-    if head == "key":
-        return len(tree) == 3 and is_names(tree[2])
-    if head == "fixes":
-        return len(tree) == 4 and is_names(tree[2]) and is_names(tree[3])
-    if head == "refers":
-        return is_refers(tree)
-    return head == "groups" and is_groups(tree)
-
-
-def places_of(names, table):
-    known = column_names(table)
-    if not all([name in known for name in names]):
-        raise NotThere()
-    return [known.index(name) for name in names]
+from tableclaims.shapes import is_claim
+from tableclaims.tables import MISSING, alike_rows, column_names, has_numbers, picked, places_of, table_called
 
 
 def check_measure(measure, table):

@@ -1,9 +1,11 @@
 """The calls on an object that holds tables, read from and answered as whole numbers."""
 
 from tableclaims.breakers import breakers, check_claim
+from tableclaims.following import all_others, cover, follows, keys_and_fixed
 from tableclaims.found import found_claims
-from tableclaims.refusals import NameTaken, NoSuchClaim, NotReadable, Refusal, TooManyTables
-from tableclaims.tables import rows_from, table_called, table_from
+from tableclaims.least import is_left_side, least_keys
+from tableclaims.refusals import NameTaken, NoKeyOrFixedColumn, NoSuchClaim, NotReadable, Refusal, TooManyTables
+from tableclaims.tables import Table, column_names, places_told, rows_from, table_called, table_from
 from tableclaims.trees import answered_bytes, read_one_tree, read_trees, text_of
 
 TABLE = 0
@@ -12,6 +14,11 @@ FOUND = 2
 TOLD = 3
 SUPPORT = 4
 HOLDS = 5
+STILL = 6
+KEYS = 7
+FIXED = 8
+COVER = 9
+FOLLOWS = 10
 MOST_TABLES = 3
 MOST_BYTES_OF_CLAIM = 700
 
@@ -56,9 +63,16 @@ def answer_rows(tables, name, text):
     return [len(table.rows)]
 
 
+def found_trees(table, tables):
+    return [claim[0] for claim in found_claims(table, tables)]
+
+
+def counted_text(trees):
+    return [len(trees)] + answered_bytes(trees)
+
+
 def answer_found(tables, name):
-    found = found_claims(table_named(tables, name), tables)
-    return [len(found)] + answered_bytes([claim[0] for claim in found])
+    return counted_text(found_trees(table_named(tables, name), tables))
 
 
 def found_claim(tables, number, name):
@@ -87,6 +101,49 @@ def answer_holds(tables, text):
     return [1 if broken == [] else 0, len(broken)]
 
 
+def with_rows(table, rows, tables):
+    other = Table(table.name, table.columns, rows)
+    return [other if held.name == table.name else held for held in tables]
+
+
+def answer_still(tables, name, text):
+    table = table_named(tables, name)
+    instead = with_rows(table, rows_from(read_trees(text), table.columns), tables)
+    found = found_trees(table, tables)
+    numbers = [number for number, claim in enumerate(found) if breakers(claim, instead) == []]
+    return [len(numbers)] + numbers
+
+
+def answer_keys(tables, name):
+    least = least_keys(table_named(tables, name))
+    told = [len(least)]
+    for places in least:
+        told.append(len(places))
+        told.extend(places)
+    return told
+
+
+def answer_fixed(tables, name, text):
+    table = table_named(tables, name)
+    places = places_told(read_trees(text), table)
+    fixed = [place for place in range(len(table.columns)) if is_left_side(places, place, table.rows)]
+    return [len(fixed)] + fixed
+
+
+def answer_cover(tables, name):
+    table = table_named(tables, name)
+    return counted_text(cover(keys_and_fixed(found_trees(table, tables)), column_names(table)))
+
+
+def answer_follows(tables, number, name):
+    claim = found_claim(tables, number, name)[0]
+    table = table_named(tables, name)
+    found = keys_and_fixed(found_trees(table, tables))
+    if claim not in found:
+        raise NoKeyOrFixedColumn()
+    return [1 if follows(claim, all_others(claim, found), column_names(table)) else 0]
+
+
 def answer_call(tables, reader):
     call = reader.take()
     if call == TABLE:
@@ -101,7 +158,17 @@ def answer_call(tables, reader):
         return answer_support(tables, reader.take(), reader.take_list())
     if call == HOLDS:
         return answer_holds(tables, reader.take_list())
-    raise NotImplementedError("no such call")
+    if call == STILL:
+        return answer_still(tables, reader.take_list(), reader.take_list())
+    if call == KEYS:
+        return answer_keys(tables, reader.take_list())
+    if call == FIXED:
+        return answer_fixed(tables, reader.take_list(), reader.take_list())
+    if call == COVER:
+        return answer_cover(tables, reader.take_list())
+    if call == FOLLOWS:
+        return answer_follows(tables, reader.take(), reader.take_list())
+    raise ValueError("no such call")
 
 
 def answer_or_refusal(tables, reader):

@@ -41,7 +41,17 @@ class NameTaken(Refusal):
         Refusal.__init__(self, -5)
 
 
+class NoSuchColumn(Refusal):
+    def __init__(self):
+        Refusal.__init__(self, -5)
+
+
 class TooManyTables(Refusal):
+    def __init__(self):
+        Refusal.__init__(self, -6)
+
+
+class NoKeyOrFixedColumn(Refusal):
     def __init__(self):
         Refusal.__init__(self, -6)
 

@@ -1,6 +1,6 @@
 """Tables: their shape, their rows, and which rows are alike."""
 
-from tableclaims.refusals import NamedTwice, NotThere, WrongCell, WrongShape
+from tableclaims.refusals import NamedTwice, NoSuchColumn, NotThere, WrongCell, WrongShape
 
 MISSING = ()
 MOST_COLUMNS = 6
@@ -130,6 +130,22 @@ def table_called(name, tables):
         if table.name == name:
             return table
     raise NotThere()
+
+
+def places_of(names, table):
+    known = column_names(table)
+    if not all([name in known for name in names]):
+        raise NotThere()
+    return tuple([known.index(name) for name in names])
+
+
+def places_told(trees, table):
+    if not are_words(trees):
+        raise WrongShape()
+    try:
+        return places_of(trees, table)
+    except NotThere:
+        raise NoSuchColumn()
 
 
 def picked(things, places):

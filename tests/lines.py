@@ -36,6 +36,26 @@ def holds(text):
     return [5] + row(text)
 
 
+def still(name, text):
+    return [6] + row(name) + row(text)
+
+
+def keys(name):
+    return [7] + row(name)
+
+
+def fixed(name, columns):
+    return [8] + row(name) + row(columns)
+
+
+def cover(name):
+    return [9] + row(name)
+
+
+def follows(k, name):
+    return [10, k] + row(name)
+
+
 def parted(numbers):
     answered = []
     place = 0

@@ -1,4 +1,4 @@
-"""What the document asks of found, support and holds, said a second time in another way.
+"""What the document asks of found, support, still, keys, fixed, cover and follows, said a second time in another way.
 
 Tables here: dict name -> (columns, rows); a column is (name, words or None, maybe); a missing cell is None.
 """
@@ -124,3 +124,99 @@ def found(t, tables):
     columns, rows = tables[t]
     return [*single_claims(t, columns, rows), *order_claims(t, columns, rows), *set_claims(t, columns, rows),
             *refers_claims(t, tables)]
+
+
+def fixed_columns(rows, columns, places):
+    return [d for d in range(len(columns)) if is_fixed(rows, places, d)]
+
+
+def sets_found(columns, rows):
+    """The keys and fixed columns found, in order: (key or fixes, the columns on its left side, the fixed one)."""
+    keys = keys_of(columns, rows)
+    told = [("key", key, None) for key in keys]
+    for d in range(len(columns)):
+        told += [("fixes", side, d) for side in left_sides_of(columns, rows, d) if not any(key <= side for key in keys)]
+    return told
+
+
+def set_text(t, columns, claim):
+    head, side, d = claim
+    told = f"({head} {t} ({named(columns, side)})"
+    return told + ")" if d is None else f"{told} ({columns[d][0]}))"
+
+
+def breaks(claim, agreed):
+    """Whether two rows that are alike in just these columns break a key or a fixed column."""
+    head, side, d = claim
+    return side <= agreed and d not in agreed
+
+
+def follows(claim, others, count):
+    """In whatever rows: no two rows, in whichever columns they're alike, break this claim and none of the others."""
+    return all(any(breaks(other, agreed) for other in others)
+               for agreed in subsets(range(count), count) if breaks(claim, agreed))
+
+
+def cover(claims, count):
+    kept = list(claims)
+    for claim in claims[::-1]:
+        rest = [other for other in kept if other is not claim]
+        if follows(claim, rest, count):
+            kept = rest
+    return kept
+
+
+def parsed(text):
+    """A written tree, as lists in lists."""
+    lists = [[]]
+    for piece in text.replace("(", " ( ").replace(")", " ) ").split():
+        if piece == "(":
+            lists.append([])
+        elif piece == ")":
+            done = lists.pop()
+            lists[-1].append(done)
+        else:
+            lists[-1].append(int(piece) if piece.isdigit() else piece)
+    return lists[0][0]
+
+
+def is_so(condition, cells):
+    """A condition of the found ones; cells: a function from (head, column) to the cell."""
+    head, parts = condition[0], condition[1:]
+    if head == "or":
+        return any(is_so(part, cells) for part in parts)
+    if head == "and":
+        return all(is_so(part, cells) for part in parts)
+    if head == "not":
+        return not is_so(parts[0], cells)
+    values = [part if isinstance(part, int) else part[1] if part[0] == "word" else cells(*part) for part in parts]
+    if head == "gone":
+        return values[0] is None
+    if None in values:
+        return False
+    return values[0] < values[1] if head == "less" else values[0] == values[1]
+
+
+def holds(text, tables):
+    """Whether a claim of the found ones holds."""
+    claim = parsed(text)
+    columns, rows = tables[claim[1]]
+    place = {column[0]: p for p, column in enumerate(columns)}
+    if claim[0] == "each":
+        return all(is_so(claim[2], lambda head, c: row[place[c]]) for row in rows)
+    if claim[0] == "next":
+        return all(is_so(claim[2], lambda head, c: {"one": one, "two": two}[head][place[c]])
+                   for one, two in zip(rows, rows[1:]))
+    places = [place[c] for c in claim[2]]
+    if claim[0] == "key":
+        return is_key(rows, places)
+    if claim[0] == "fixes":
+        return is_fixed(rows, places, place[claim[3][0]])
+    others, there = tables[claim[3]]
+    q = [column[0] for column in others].index(claim[4][0])
+    return {row[places[0]] for row in rows} - {None} <= {row[q] for row in there}
+
+
+def still(t, tables, rows):
+    instead = {**tables, t: (tables[t][0], rows)}
+    return [k for k, (text, count) in enumerate(found(t, tables)) if holds(text, instead)]

@@ -1,4 +1,4 @@
-"""Point 9, and point 4 once more: what holds whatever the tables, on many made-up tables."""
+"""Point 9, and points 4 to 8 once more: what holds whatever the tables, on many made-up tables."""
 
 import random
 import re
@@ -6,7 +6,7 @@ import unittest
 from itertools import combinations
 
 from tests import oracle
-from tests.lines import found, holds, last, run, support, table, text_of, told
+from tests.lines import cover, fixed, follows, found, holds, keys, last, run, still, support, table, text_of, told
 
 WORDS = ["x", "y", "z", "q"]
 
@@ -44,6 +44,50 @@ def made_tables(seed):
 
 def calls_for(tables):
     return [table(oracle.told_table(name, columns, rows)) for name, (columns, rows) in tables.items()]
+
+
+def other_rows(source, columns, rows):
+    """Other rows for a table, near enough to its own ones that some claims hold and some don't."""
+    drawn = [list(row) for row in rows if source.random() < 0.7]
+    sort = source.randrange(5)
+    if sort == 0:
+        source.shuffle(drawn)
+    if sort in (1, 2) and drawn:
+        for count in range(sort):
+            p = source.randrange(len(columns))
+            source.choice(drawn)[p] = made_cell(source, columns[p], 9)
+    if sort == 3:
+        drawn += [[made_cell(source, column, 9) for column in columns]]
+    if sort == 4 and drawn:
+        drawn.insert(source.randrange(len(drawn)), list(source.choice(drawn)))
+    return drawn[:40]
+
+
+def two_cells(column):
+    """Two cells that a column may have, another if there is one."""
+    if column[1] is None:
+        return 0, 1
+    return column[1][0], column[1][-1] if len(column[1]) > 1 or not column[2] else None
+
+
+def two_rows(columns, agreed):
+    """Two rows that are alike in these columns, and in no others if that may be."""
+    cells = [two_cells(column) for column in columns]
+    one = [cell for cell, other in cells]
+    two = [one[p] if p in agreed else cells[p][1] for p in range(len(columns))]
+    return [one, two]
+
+
+def told_rows(drawn):
+    return " ".join(oracle.told_row(row) for row in drawn)
+
+
+def in_parts(calls, asked):
+    """The answers of what's asked behind the calls, however much that is."""
+    answered = []
+    for start in range(0, len(asked), 30):
+        answered += run(*calls, *asked[start:start + 30])[len(calls):]
+    return answered
 
 
 def fixed_by(places, count, keys, fixes):
@@ -136,6 +180,134 @@ class Whatever(unittest.TestCase):
                                     f"(each {name} (or (gone (col {c})) (less (col {c}) {max(cells)})))"]
                         for answer in run(*calls, *[holds(claim) for claim in narrower])[len(calls):]:
                             self.assertEqual(answer[0], 0, seed)
+
+
+class Cover(unittest.TestCase):
+    def test_cover_and_follows_are_as_said(self):
+        for seed in range(200):
+            tables = made_tables(seed)
+            calls = calls_for(tables)
+            for name, (columns, rows) in tables.items():
+                claims = oracle.sets_found(columns, rows)
+                wanted = [oracle.set_text(name, columns, claim) for claim in oracle.cover(claims, len(columns))]
+                answer = last(*calls, cover(name))
+                self.assertEqual((answer[0], text_of(answer[1:])), (len(wanted), " ".join(wanted)), seed)
+                texts = [text for text, support in oracle.found(name, tables)]
+                numbers = [texts.index(oracle.set_text(name, columns, claim)) for claim in claims]
+                answered = in_parts(calls, [follows(k, name) for k in range(len(texts) + 1)])
+                self.assertEqual(answered.pop(), [-4], seed)
+                for k, claim in zip(numbers, claims):
+                    rest = [other for other in claims if other is not claim]
+                    self.assertEqual(answered[k], [int(oracle.follows(claim, rest, len(columns)))], (seed, texts[k]))
+                for k in set(range(len(texts))) - set(numbers):
+                    self.assertEqual(answered[k], [-6], (seed, texts[k]))
+
+    def test_all_follows_from_the_cover_and_none_of_it_from_the_rest(self):
+        for seed in range(200):
+            tables = made_tables(seed)
+            for name, (columns, rows) in tables.items():
+                answered = run(*calls_for(tables), found(name), cover(name))
+                found_keys, found_fixes = read_sets(text_of(answered[-2][1:]), columns)
+                kept_keys, kept_fixes = read_sets(text_of(answered[-1][1:]), columns)
+                self.assertEqual(len(kept_keys) + len(kept_fixes), answered[-1][0])
+                self.assertEqual(kept_keys, [key for key in found_keys if key in kept_keys])
+                self.assertEqual(kept_fixes, [two for two in found_fixes if two in kept_fixes])
+                self.assert_all_follows(len(columns), found_keys, found_fixes, kept_keys, kept_fixes)
+                self.assert_none_follows(len(columns), kept_keys, kept_fixes)
+
+    def assert_all_follows(self, count, found_keys, found_fixes, kept_keys, kept_fixes):
+        for key in found_keys:
+            by_it = fixed_by(key, count, kept_keys, kept_fixes)
+            self.assertTrue(any(kept <= by_it for kept in kept_keys))
+        for side, d in found_fixes:
+            self.assertIn(d, fixed_by(side, count, kept_keys, kept_fixes))
+
+    def assert_none_follows(self, count, kept_keys, kept_fixes):
+        for key in kept_keys:
+            others = [other for other in kept_keys if other != key]
+            by_it = fixed_by(key, count, others, kept_fixes)
+            self.assertFalse(any(other <= by_it for other in others))
+        for side, d in kept_fixes:
+            others = [other for other in kept_fixes if other != (side, d)]
+            self.assertNotIn(d, fixed_by(side, count, kept_keys, others))
+
+    def test_the_cover_implies_all_in_whatever_rows(self):
+        """Keys and fixed columns are broken by two rows each: so with all twos of rows all rows are looked at."""
+        broken = 0
+        for seed in range(60):
+            tables = made_tables(seed)
+            calls = calls_for(tables)
+            for name, (columns, rows) in tables.items():
+                texts = [text for text, support in oracle.found(name, tables)]
+                kept = text_of(last(*calls, cover(name))[1:])
+                sets = [k for k, text in enumerate(texts) if text.startswith(("(key", "(fixes"))]
+                in_cover = [k for k in sets if texts[k] in kept]
+                twos = [told_rows(two_rows(columns, agreed))
+                        for agreed in oracle.subsets(range(len(columns)), len(columns))]
+                for answer in in_parts(calls, [still(name, two) for two in twos]):
+                    if set(in_cover) <= set(answer[1:]):
+                        self.assertLessEqual(set(sets), set(answer[1:]), seed)
+                    else:
+                        broken += 1
+        self.assertGreater(broken, 100)
+
+
+class Others(unittest.TestCase):
+    def test_keys_are_as_said(self):
+        for seed in range(200):
+            tables = made_tables(seed)
+            for name, (columns, rows) in tables.items():
+                wanted = [sorted(key) for key in oracle.keys_of(columns, rows)]
+                told_keys = [number for key in wanted for number in (len(key), *key)]
+                self.assertEqual(last(*calls_for(tables), keys(name)), [len(wanted), *told_keys], seed)
+
+    def test_fixed_is_as_said(self):
+        for seed in range(150):
+            tables = made_tables(seed)
+            source = random.Random(seed)
+            for name, (columns, rows) in tables.items():
+                sets = oracle.subsets(range(len(columns)), len(columns))
+                drawn = source.sample(sets, min(len(sets), 12))
+                asked = []
+                for chosen in drawn:
+                    names = [columns[p][0] for p in chosen]
+                    source.shuffle(names)
+                    asked.append(fixed(name, " ".join(names)))
+                wanted = [oracle.fixed_columns(rows, columns, chosen) for chosen in drawn]
+                self.assertEqual(in_parts(calls_for(tables), asked), [[len(told), *told] for told in wanted], seed)
+
+    def test_still_is_as_said(self):
+        lost = {}
+        for seed in range(250):
+            tables = made_tables(seed)
+            calls = calls_for(tables)
+            source = random.Random(seed)
+            for name, (columns, rows) in tables.items():
+                drawn = [other_rows(source, columns, rows) for count in range(4)]
+                answered = run(*calls, *[still(name, told_rows(other)) for other in drawn], found(name))[len(calls):]
+                texts = [text for text, support in oracle.found(name, tables)]
+                self.assertEqual(text_of(answered.pop()[1:]), " ".join(texts), seed)
+                for other, answer in zip(drawn, answered):
+                    wanted = oracle.still(name, tables, other)
+                    self.assertEqual(answer, [len(wanted), *wanted], (seed, other))
+                    for k in set(range(len(texts))) - set(wanted):
+                        head = texts[k].split()[0]
+                        lost[head] = lost.get(head, 0) + 1
+        self.assertEqual(set(lost), {"(each", "(next", "(key", "(fixes", "(refers"})
+        self.assertGreater(min(lost.values()), 20, lost)
+
+    def test_still_is_holds_with_these_rows(self):
+        for seed in range(60):
+            tables = made_tables(seed)
+            calls = calls_for(tables)
+            source = random.Random(seed + 1000)
+            for name, (columns, rows) in tables.items():
+                other = other_rows(source, columns, rows)
+                texts = [text for text, support in oracle.found(name, tables)]
+                instead = calls_for({**tables, name: (columns, other)})
+                answered = in_parts(instead, [holds(text) for text in texts])
+                wanted = [k for k, answer in enumerate(answered) if answer[0] == 1]
+                self.assertEqual(last(*calls, still(name, told_rows(other))), [len(wanted), *wanted], seed)
 
 
 class Fixing(unittest.TestCase):
