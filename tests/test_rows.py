@@ -24,6 +24,12 @@ class Rows(unittest.TestCase):
         other = table("(table t ((a (up 5) maybe) (b (of x y))) (4 y) (() x))")
         self.assertEqual(last(table(T), rows("t", "(4 y) (() x)"), found("t")), last(other, found("t")))
 
+    def test_like_a_new_table_with_no_rows(self):
+        """No cell is missing then, but there's no row either: nothing is filled."""
+        other = table("(table t ((a (up 5) maybe) (b (of x y))))")
+        self.assertEqual(last(table(T), rows("t", ""), found("t")), last(other, found("t")))
+        self.assertEqual(last(table(T), rows("t", ""), found("t")), [1] + list(b"(key t ())"))
+
     def test_how_many(self):
         self.assertEqual(last(table(T), rows("t", "(1 x) " * 40)), [40])
         self.assertEqual(last(table(T), rows("t", "(1 x) " * 41)), [-2])
